@@ -1,0 +1,1 @@
+"""Teesizes: what the sizes of a buffer tell about its readers."""

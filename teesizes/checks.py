@@ -1,0 +1,42 @@
+"""Checks of arguments. Each one accepts any value."""
+
+from teesizes.errors import InvalidReaders, InvalidState
+
+MOST_ITEMS = 400
+MOST_READERS = 200
+MOST_POSITION = 10 ** 33
+
+
+def is_integer_between(value, least, greatest):
+    """Return whether a value is an integer, and neither too small nor too great."""
+    # A bool is an int for Python, but no integer for this package.
+    return isinstance(value, int) and not isinstance(value, bool) and least <= value <= greatest
+
+
+def is_list_up_to(value, most):
+    """Return whether a value is a list or a tuple with at most so many items."""
+    return isinstance(value, (list, tuple)) and len(value) <= most
+
+
+def are_integers_between(value, most, least, greatest):
+    """Return whether a value is a list of at most so many integers of a range."""
+    return is_list_up_to(value, most) and all([is_integer_between(item, least, greatest) for item in value])
+
+
+def is_state(value):
+    """Return whether a value is a state of any number of readers."""
+    if not are_integers_between(value, MOST_READERS, 0, MOST_POSITION):
+        return False
+    return len(value) >= 1 and all([entry >= later for entry, later in zip(value, value[1:])])
+
+
+def require_readers(readers, most):
+    """Raise InvalidReaders unless there are from 1 to so many readers."""
+    if not is_integer_between(readers, 1, most):
+        raise InvalidReaders("the number of readers is not an integer in its range")
+
+
+def require_state(state):
+    """Raise InvalidState unless the value is a state."""
+    if not is_state(state):
+        raise InvalidState("a state is a descending list of positions")

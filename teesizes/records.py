@@ -1,0 +1,88 @@
+"""Records: the changes of the size of the buffer, in runs of equal ones."""
+
+from teesizes.checks import MOST_ITEMS, are_integers_between, is_integer_between, is_list_up_to
+from teesizes.errors import InvalidChanges, InvalidNumber, InvalidRecord, TooLong
+
+MOST_COUNT = 10 ** 30
+MOST_CHANGES = 2000
+
+
+def is_run(value):
+    """Return whether any value is a run."""
+    if not (is_list_up_to(value, 2) and len(value) == 2):
+        return False
+    return is_integer_between(value[0], -1, 1) and is_integer_between(value[1], 1, MOST_COUNT)
+
+
+def is_record(value):
+    """Return whether any value is a record."""
+    if not is_list_up_to(value, MOST_ITEMS) or not all([is_run(run) for run in value]):
+        return False
+    return all([run[0] != later[0] for run, later in zip(value, value[1:])])
+
+
+def require_record(record):
+    """Raise InvalidRecord unless the value is a record."""
+    if not is_record(record):
+        raise InvalidRecord("a record is a list of runs with different neighbours")
+
+
+def merged(runs):
+    """Return the runs with neighbours of the same change made one."""
+    record = []
+    for change, count in runs:
+        if record and record[-1][0] == change:
+            record[-1] = (change, record[-1][1] + count)
+        else:
+            record.append((change, count))
+    return record
+
+
+def record_by(changes):
+    """Return the record of a list of changes."""
+    if not are_integers_between(changes, MOST_ITEMS, -1, 1):
+        raise InvalidChanges("changes are a list of 1, 0 and -1")
+    return merged([(change, 1) for change in changes])
+
+
+def changes_by(record):
+    """Return the list of the changes of a record."""
+    reads = count_reads(record)
+    if reads > MOST_CHANGES:
+        raise TooLong(reads)
+    changes = []
+    for change, count in record:
+        changes.extend([change] * count)
+    return changes
+
+
+def count_reads(record):
+    """Return the number of reads of a record."""
+    require_record(record)
+    return sum([run[1] for run in record])
+
+
+def totals_after(record, number):
+    """Return how many of the first reads have the changes 1, 0 and -1."""
+    if not is_integer_between(number, 0, count_reads(record)):
+        raise InvalidNumber("the number is not one of first reads of this record")
+    totals = {1: 0, 0: 0, -1: 0}
+    left = number
+    for change, count in record:
+        taken = min(count, left)
+        totals[change] += taken
+        left -= taken
+    return (totals[1], totals[0], totals[-1])
+
+
+def joined(*records):
+    """Return the record of several records, one after the other."""
+    for record in records:
+        require_record(record)
+    result = merged([run for record in records for run in record])
+    for run in result:
+        if run[1] > MOST_COUNT:
+            raise TooLong(run[1])
+    if len(result) > MOST_ITEMS:
+        raise TooLong(len(result))
+    return result

@@ -1,0 +1,100 @@
+"""What several tests need: wrong values, and slow readings of the definitions."""
+
+from itertools import product
+
+
+def nested(depth):
+    """Return a list within a list, so many levels deep."""
+    value = []
+    for _ in range(depth - 1):
+        value = [value]
+    return value
+
+
+class Thing:
+    """An object that no function knows."""
+
+
+NOT_INTEGERS = [
+    None, True, False, "", "1", "abc", b"", b"\x01", [], [1], (), (1,), {}, {1: 1}, set(), {1}, frozenset([1]),
+    Thing(), Thing, int, len, Ellipsis, range(3), nested(20), ({"a": [(1, None)]},), ValueError("x"), lambda n: n,
+]
+
+NOT_LISTS = [
+    None, True, False, 0, 1, -1, 10 ** 50, -(10 ** 5000), "", "01", "abc", b"", b"\x00", {}, {0: 0}, set(), {0},
+    frozenset([0]), Thing(), Thing, list, len, Ellipsis, range(1), iter([0]), ValueError("x"), lambda n: n,
+]
+
+
+def lists_of(values, length):
+    """Return all lists of so many of these values."""
+    return [list(items) for items in product(values, repeat=length)]
+
+
+def raised(function, *arguments):
+    """Return the error that a call raises; fail if it raises none."""
+    try:
+        result = function(*arguments)
+    except Exception as error:
+        return error
+    raise AssertionError(f"no error, but {result!r:.200}")
+
+
+def steps(readers, history):
+    """Return the ranks and the sizes after the reads, as [4] and [5] say step by step."""
+    positions = {reader: 0 for reader in range(readers)}
+    ranks, sizes = [], [0]
+    for reader in history:
+        ranks.append(sum(1 for other in positions if positions[other] > positions[reader]))
+        positions[reader] += 1
+        sizes.append(max(positions.values()) - min(positions.values()))
+    return [positions[reader] for reader in range(readers)], ranks, sizes
+
+
+def runs_of(changes):
+    """Return the runs of equal changes, counted one after the other."""
+    runs = []
+    at = 0
+    while at < len(changes):
+        end = at
+        while end < len(changes) and changes[end] == changes[at]:
+            end += 1
+        runs.append((changes[at], end - at))
+        at = end
+    return runs
+
+
+def as_tuples(value):
+    """Return the value with every list in it made a tuple."""
+    if isinstance(value, (list, tuple)):
+        return tuple(as_tuples(item) for item in value)
+    return value
+
+
+def as_lists(value):
+    """Return the value with every tuple in it made a list."""
+    if isinstance(value, (list, tuple)):
+        return [as_lists(item) for item in value]
+    return value
+
+
+class Checks:
+    """Assertions for test cases."""
+
+    def assert_raises_exactly(self, kind, function, *arguments):
+        """Assert that a call raises an error of this very class, and return the error."""
+        error = raised(function, *arguments)
+        self.assertIs(type(error), kind, repr(error)[:200])
+        return error
+
+    def assert_same(self, found, wanted):
+        """Assert that two values are equal, and of the same kinds throughout."""
+        self.assertEqual(found, wanted)
+        self.assertEqual(kinds(found), kinds(wanted))
+
+
+def kinds(value):
+    """Return the kinds of a value and of all values in it."""
+    if isinstance(value, (list, tuple)):
+        return (type(value), [kinds(item) for item in value])
+    return type(value)
