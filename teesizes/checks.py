@@ -1,6 +1,6 @@
 """Checks of arguments. Each one accepts any value."""
 
-from teesizes.errors import InvalidReaders, InvalidState
+from teesizes.errors import InvalidNumber, InvalidReaders, InvalidState
 
 MOST_ITEMS = 400
 MOST_READERS = 200
@@ -16,6 +16,11 @@ def is_integer_between(value, least, greatest):
 def is_list_up_to(value, most):
     """Return whether a value is a list or a tuple with at most so many items."""
     return isinstance(value, (list, tuple)) and len(value) <= most
+
+
+def is_pair(value):
+    """Return whether a value is a list or a tuple with two items."""
+    return isinstance(value, (list, tuple)) and len(value) == 2
 
 
 def are_integers_between(value, most, least, greatest):
@@ -34,6 +39,12 @@ def require_readers(readers, most):
     """Raise InvalidReaders unless there are from 1 to so many readers."""
     if not is_integer_between(readers, 1, most):
         raise InvalidReaders("the number of readers is not an integer in its range")
+
+
+def require_number(number, most):
+    """Raise InvalidNumber unless the value is an integer from 0 to the greatest one."""
+    if not is_integer_between(number, 0, most):
+        raise InvalidNumber("the number is not an integer in its range")
 
 
 def require_state(state):

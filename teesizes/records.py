@@ -1,7 +1,9 @@
 """Records: the changes of the size of the buffer, in runs of equal ones."""
 
-from teesizes.checks import MOST_ITEMS, are_integers_between, is_integer_between, is_list_up_to
-from teesizes.errors import InvalidChanges, InvalidNumber, InvalidRecord, TooLong
+from teesizes.checks import (
+    MOST_ITEMS, are_integers_between, is_integer_between, is_list_up_to, is_pair, require_number,
+)
+from teesizes.errors import InvalidChanges, InvalidRecord, TooLong
 
 MOST_COUNT = 10 ** 30
 MOST_CHANGES = 2000
@@ -9,9 +11,7 @@ MOST_CHANGES = 2000
 
 def is_run(value):
     """Return whether any value is a run."""
-    if not (is_list_up_to(value, 2) and len(value) == 2):
-        return False
-    return is_integer_between(value[0], -1, 1) and is_integer_between(value[1], 1, MOST_COUNT)
+    return is_pair(value) and is_integer_between(value[0], -1, 1) and is_integer_between(value[1], 1, MOST_COUNT)
 
 
 def is_record(value):
@@ -62,17 +62,36 @@ def count_reads(record):
     return sum([run[1] for run in record])
 
 
-def totals_after(record, number):
-    """Return how many of the first reads have the changes 1, 0 and -1."""
-    if not is_integer_between(number, 0, count_reads(record)):
-        raise InvalidNumber("the number is not one of first reads of this record")
+def totals_by_run(record):
+    """Return the numbers of the changes 1, 0 and -1 before the first run of a record and after each one."""
     totals = {1: 0, 0: 0, -1: 0}
+    rows = [(0, 0, 0)]
+    for change, count in record:
+        totals[change] += count
+        rows.append((totals[1], totals[0], totals[-1]))
+    return rows
+
+
+def first_runs(record, number):
+    """Return the runs of the first reads of a record, the last one as far as they reach."""
+    runs = []
     left = number
     for change, count in record:
-        taken = min(count, left)
-        totals[change] += taken
-        left -= taken
-    return (totals[1], totals[0], totals[-1])
+        if left > 0:
+            runs.append((change, min(count, left)))
+            left -= count
+    return runs
+
+
+def totals_of_first(record, number):
+    """Return how many of the first reads have the changes 1, 0 and -1, for valid arguments."""
+    return totals_by_run(first_runs(record, number))[-1]
+
+
+def totals_after(record, number):
+    """Return how many of the first reads have the changes 1, 0 and -1."""
+    require_number(number, count_reads(record))
+    return totals_of_first(record, number)
 
 
 def joined(*records):

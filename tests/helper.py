@@ -26,6 +26,33 @@ NOT_LISTS = [
 ]
 
 
+WRONG_RUNS = [
+    (), (1,), (1, 1, 1), (2, 1), (-2, 1), (10 ** 5000, 1), (1, 0), (0, -1), (1, 10 ** 30 + 1), (1, 10 ** 5000), [1, 0],
+    [2, 1], "11", b"\x01\x01", {1: 1, 0: 1}, {0: 1, 1: 2}, {1, 0}, 1, None, nested(19),
+    *[(item, 1) for item in NOT_INTEGERS], *[(1, item) for item in NOT_INTEGERS],
+]
+
+
+def zigzag(runs, count):
+    """Return a record of so many runs with the same count."""
+    return [((1, 0, -1)[at - at // 3 * 3], count) for at in range(runs)]
+
+
+def wrong_records():
+    """Return values of every kind that are no records."""
+    values = [*NOT_LISTS, nested(20), zigzag(401, 1), [(1, 1)] * 401]
+    for change in (1, 0, -1):
+        values.append([(change, 1), (change, 1)])
+        values.append([[change, 2], (change, 1)])
+        values.append([(0, 1), (1, 1), (-1, 1), (change, 1), (change, 2)])
+    for run in WRONG_RUNS:
+        for at in (0, 2, 4):
+            runs = [(1, 1), (0, 1), (1, 1), (0, 1), (1, 1)]
+            runs[at] = run
+            values.append(runs)
+    return values
+
+
 def lists_of(values, length):
     """Return all lists of so many of these values."""
     return [list(items) for items in product(values, repeat=length)]

@@ -4,10 +4,16 @@ import copy
 import importlib
 import unittest
 
-from teesizes import histories, records
-from teesizes.errors import InvalidChanges, InvalidHistory, InvalidNumber, InvalidRanks, InvalidReaders, TooLong
+from teesizes import histories, possible, ranges, records, states
+from teesizes.errors import (
+    Impossible, InvalidChanges, InvalidHistory, InvalidNumber, InvalidRank, InvalidRanks, InvalidReaders, InvalidRecord,
+    InvalidState, TooLong,
+)
 from teesizes.histories import count_words, history_by, is_history, is_ranks, positions_after, ranks_of, record_of
+from teesizes.possible import is_possible, obstruction, obstructs, possible_readers
+from teesizes.ranges import position_range, possible_ranks
 from teesizes.records import changes_by, count_reads, is_record, joined, record_by, totals_after
+from teesizes.states import even_state, fits, misfit
 from tests.helper import Checks, as_lists, as_tuples
 
 INTERFACE = {
@@ -16,6 +22,9 @@ INTERFACE = {
         "count_words",
     ],
     "teesizes.records": ["is_record", "record_by", "changes_by", "count_reads", "totals_after", "joined"],
+    "teesizes.possible": ["possible_readers", "is_possible", "obstruction", "obstructs"],
+    "teesizes.states": ["even_state", "fits", "misfit"],
+    "teesizes.ranges": ["position_range", "possible_ranks"],
 }
 
 HISTORY = [0, 0, 1, 2, 1, 3]
@@ -38,6 +47,15 @@ CALLS = [
     (records.count_reads, [RECORD], [[(1, 1), (0, 4), (1, 2)]]),
     (records.totals_after, [RECORD, 4], [[(1, 1), (0, 4), (1, 2)], 4]),
     (records.joined, [RECORD, [(-1, 5), (1, 1)]], [[(1, 1), (0, 4), (1, 2)], [(1, 5), (0, 1)]]),
+    (possible.possible_readers, [RECORD], [[(1, 1), (0, 4), (1, 2)]]),
+    (possible.is_possible, [RECORD, 5], [[(1, 1), (0, 4), (1, 2)], 5]),
+    (possible.obstruction, [RECORD, 3], [[(1, 1), (0, 4), (1, 2)], 3]),
+    (possible.obstructs, [RECORD, 3, ("few", 6)], [RECORD, 3, ("few", 4)]),
+    (states.even_state, [RECORD, 4], [[(1, 2), (0, 2), (1, 1)], 4]),
+    (states.fits, [RECORD, 4, [2, 2, 1, 1]], [RECORD, 4, [3, 1, 1, 1]]),
+    (states.misfit, [[(1, 1), (0, 2), (1, 1)], 4, [2, 2, 0, 0]], [[(1, 2), (0, 2), (1, 1)], 4, [2, 2, 0, 0]]),
+    (ranges.position_range, [RECORD, 4, 4, 1], [[(1, 1), (0, 2), (1, 1)], 4, 4, 1]),
+    (ranges.possible_ranks, [RECORD, 4, 3], [[(1, 1), (0, 2), (1, 1)], 4, 3]),
 ]
 
 
@@ -91,6 +109,13 @@ class ArgumentsTest(Checks, unittest.TestCase):
                     old[:] = new
             self.assert_same(function(*passed), wanted)
 
+    def test_results_do_not_depend_on_earlier_calls(self):
+        record = [[1, 2], [0, 3], [-1, 1]]
+        for count, wanted in ((3, (4, 5)), (2, (3, 4)), (6, (5, 8)), (3, (4, 5))):
+            record[1][1] = count
+            self.assert_same(possible_readers(record), wanted)
+            self.assertIs(is_possible(record, 5), wanted[1] >= 5)
+
     def test_inner_lists_are_read_anew(self):
         record = [[1, 2], [0, 3], [-1, 1]]
         self.assertEqual(count_reads(record), 6)
@@ -110,6 +135,21 @@ class ArgumentsTest(Checks, unittest.TestCase):
             self.assert_raises_exactly(InvalidRanks, history_by, 2, [flag])
             self.assert_raises_exactly(InvalidChanges, record_by, [flag])
             self.assert_raises_exactly(InvalidNumber, totals_after, RECORD, flag)
+            for function in (possible_readers, is_possible, obstruction, even_state):
+                rest = [] if function is possible_readers else [1]
+                self.assert_raises_exactly(InvalidRecord, function, [(0, flag)], *rest)
+                if rest:
+                    self.assert_raises_exactly(InvalidReaders, function, [], flag)
+            self.assert_raises_exactly(InvalidReaders, obstructs, [], flag, ("single", 1))
+            self.assertIs(obstructs([(1, 2)], 1, ("single", flag)), False)
+            for function in (fits, misfit):
+                self.assert_raises_exactly(InvalidReaders, function, [(0, 1)], flag, [1])
+                self.assert_raises_exactly(InvalidState, function, [(0, 1)], 1, [flag])
+            self.assert_raises_exactly(InvalidReaders, position_range, [(0, 1)], flag, 0, 0)
+            self.assert_raises_exactly(InvalidNumber, position_range, [(0, 1)], 1, flag, 0)
+            self.assert_raises_exactly(InvalidRank, position_range, [(1, 1)], 2, 0, flag)
+            self.assert_raises_exactly(InvalidReaders, possible_ranks, [(0, 1)], flag, 0)
+            self.assert_raises_exactly(InvalidNumber, possible_ranks, [(0, 2)], 1, flag)
 
 
 class ResultsTest(Checks, unittest.TestCase):
@@ -147,6 +187,34 @@ class ResultsTest(Checks, unittest.TestCase):
         changes = changes_by([(1, 1000), (0, 1000)])
         self.assert_raises_exactly(InvalidChanges, record_by, changes)
         self.assertIs(is_history(2, changes), False)
+
+    def test_states_and_obstructions_may_be_passed_again(self):
+        great = [(1, 10 ** 30), (0, 10 ** 30)] * 200
+        least, _ = possible_readers(great)
+        self.assertIs(is_possible(great, least), True)
+        state = even_state(great, least)
+        self.assertIs(fits(great, least, state), True)
+        self.assert_same(misfit(great, least + 1, [*state, 0]), None)
+        self.assert_raises_exactly(TooLong, count_words, state)
+        least, greatest = position_range(great, 4, count_reads(great), 1)
+        self.assertIs(fits(great, 4, [state[0], greatest, state[1] - greatest, 0]), True)
+        self.assertIs(fits(great, 4, [state[0], least, state[1] - least, 0]), True)
+        found = obstruction(RECORD, 3)
+        self.assertIs(obstructs(RECORD, 3, found), True)
+        error = self.assert_raises_exactly(Impossible, even_state, RECORD, 3)
+        self.assertIs(obstructs(RECORD, 3, error.obstruction), True)
+        words = count_words([20] * 20)
+        self.assert_raises_exactly(InvalidReaders, is_possible, RECORD, words)
+        self.assert_raises_exactly(InvalidNumber, possible_ranks, RECORD, 4, words)
+        self.assertIs(obstructs(RECORD, 3, ("few", words)), False)
+
+    def test_greatest_number_of_readers_may_be_passed_again(self):
+        record = [(1, 10 ** 30), (0, 10 ** 30)] * 199 + [(1, 1), (-1, 1)]
+        _, greatest = possible_readers(record)
+        self.assertEqual(greatest, 199 * 10 ** 30 + 2)
+        self.assertIs(is_possible(record, greatest), True)
+        self.assert_same(obstruction(record, greatest + 1), ("many", count_reads(record)))
+        self.assert_raises_exactly(InvalidReaders, even_state, record, greatest)
 
     def test_longest_sum_may_be_passed_again(self):
         record = [(at - at // 2 * 2, 10 ** 30) for at in range(400)]

@@ -4,36 +4,12 @@ import unittest
 
 from teesizes.errors import InvalidChanges, InvalidNumber, InvalidRecord, TooLong
 from teesizes.records import changes_by, count_reads, is_record, joined, record_by, totals_after
-from tests.helper import Checks, NOT_INTEGERS, NOT_LISTS, lists_of, nested, runs_of
+from tests.helper import (
+    Checks, NOT_INTEGERS, NOT_LISTS, lists_of, nested, runs_of, wrong_records, zigzag,
+)
 
 MOST = 10 ** 30
 RECORD = [(1, 2), (0, 3), (-1, 1)]
-
-WRONG_RUNS = [
-    (), (1,), (1, 1, 1), (2, 1), (-2, 1), (10 ** 5000, 1), (1, 0), (0, -1), (1, MOST + 1), (1, 10 ** 5000), [1, 0],
-    [2, 1], "11", b"\x01\x01", {1: 1, 0: 1}, {0: 1, 1: 2}, {1, 0}, 1, None, nested(19),
-    *[(item, 1) for item in NOT_INTEGERS], *[(1, item) for item in NOT_INTEGERS],
-]
-
-
-def zigzag(runs, count):
-    """Return a record of so many runs with the same count."""
-    return [((1, 0, -1)[at - at // 3 * 3], count) for at in range(runs)]
-
-
-def wrong_records():
-    """Return values of every kind that are no records."""
-    values = [*NOT_LISTS, nested(20), zigzag(401, 1), [(1, 1)] * 401]
-    for change in (1, 0, -1):
-        values.append([(change, 1), (change, 1)])
-        values.append([[change, 2], (change, 1)])
-        values.append([(0, 1), (1, 1), (-1, 1), (change, 1), (change, 2)])
-    for run in WRONG_RUNS:
-        for at in (0, 2, 4):
-            runs = [(1, 1), (0, 1), (1, 1), (0, 1), (1, 1)]
-            runs[at] = run
-            values.append(runs)
-    return values
 
 
 class ExamplesTest(Checks, unittest.TestCase):
