@@ -32,11 +32,14 @@ def ranks_of(readers, history):
     """Return the list of the ranks of the reads."""
     require_history(readers, history)
     positions = [0] * readers
+    # The readers with a greater position are those that have read the item at the own position.
+    readers_of_items = [0] * len(history)
     ranks = []
     for reader in history:
-        own = positions[reader]
-        ranks.append(len([position for position in positions if position > own]))
-        positions[reader] = own + 1
+        item = positions[reader]
+        ranks.append(readers_of_items[item])
+        readers_of_items[item] += 1
+        positions[reader] = item + 1
     return ranks
 
 

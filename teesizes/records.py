@@ -16,9 +16,14 @@ def is_run(value):
 
 def is_record(value):
     """Return whether any value is a record."""
-    if not is_list_up_to(value, MOST_ITEMS) or not all([is_run(run) for run in value]):
+    if not is_list_up_to(value, MOST_ITEMS):
         return False
-    return all([run[0] != later[0] for run, later in zip(value, value[1:])])
+    change_before = None
+    for run in value:
+        if not is_run(run) or run[0] == change_before:
+            return False
+        change_before = run[0]
+    return True
 
 
 def require_record(record):
