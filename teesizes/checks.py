@@ -1,10 +1,12 @@
 """Checks of arguments. Each one accepts any value."""
 
-from teesizes.errors import InvalidNumber, InvalidReaders, InvalidState
+from teesizes.errors import InvalidNames, InvalidNumber, InvalidReaders, InvalidState
 
 MOST_ITEMS = 400
 MOST_READERS = 200
 MOST_POSITION = 10 ** 33
+MOST_LETTERS = 8
+LETTERS_OF_NAMES = "abcdefghijklmnopqrstuvwxyz"
 
 
 def is_integer_between(value, least, greatest):
@@ -35,6 +37,20 @@ def is_state(value):
     return len(value) >= 1 and all([entry >= later for entry, later in zip(value, value[1:])])
 
 
+def is_name(value):
+    """Return whether a value is a name."""
+    if not isinstance(value, str) or not 1 <= len(value) <= MOST_LETTERS:
+        return False
+    return all([letter in LETTERS_OF_NAMES for letter in value])
+
+
+def are_names(value):
+    """Return whether a value is a list of different names, at least one of them and not too many."""
+    if not is_list_up_to(value, MOST_READERS) or not all([is_name(item) for item in value]):
+        return False
+    return len(value) >= 1 and len(set(value)) == len(value)
+
+
 def require_readers(readers, most):
     """Raise InvalidReaders unless there are from 1 to so many readers."""
     if not is_integer_between(readers, 1, most):
@@ -51,3 +67,9 @@ def require_state(state):
     """Raise InvalidState unless the value is a state."""
     if not is_state(state):
         raise InvalidState("a state is a descending list of positions")
+
+
+def require_names(names):
+    """Raise InvalidNames unless the value is a list of different names."""
+    if not are_names(names):
+        raise InvalidNames("names are a list of different words of a few lower-case letters")

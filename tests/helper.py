@@ -26,6 +26,18 @@ NOT_LISTS = [
 ]
 
 
+NOT_STRINGS = [
+    None, True, False, 0, 1, -1, 10 ** 50, -(10 ** 5000), b"", b"ann", b"u1", b"undo", [], ["ann"], ["u1"], (),
+    ("ann",), {}, {"ann": 1}, set(), {"ann"}, frozenset(["ann"]), Thing(), Thing, str, len, Ellipsis, range(3),
+    iter(["ann"]), nested(20), (["ann", ({"a": [None]},)],), ValueError("ann"), lambda name: name,
+]
+
+NOT_NAMES = [
+    "", "abcdefghi", "abcdefgh" * 500, "Ann", "anN", "ANN", "a1", "1", "0", "a_b", "a-b", "a b", " ann", "ann ", " ",
+    "ann\n", "@", "`", "{", "a.b", "\u00e4nn", "\u00df", *NOT_STRINGS,
+]
+
+
 WRONG_RUNS = [
     (), (1,), (1, 1, 1), (2, 1), (-2, 1), (10 ** 5000, 1), (1, 0), (0, -1), (1, 10 ** 30 + 1), (1, 10 ** 5000), [1, 0],
     [2, 1], "11", b"\x01\x01", {1: 1, 0: 1}, {0: 1, 1: 2}, {1, 0}, 1, None, nested(19),
@@ -50,6 +62,21 @@ def wrong_records():
             runs = [(1, 1), (0, 1), (1, 1), (0, 1), (1, 1)]
             runs[at] = run
             values.append(runs)
+    return values
+
+
+def names_for(many):
+    """Return so many different names, the first ones of one letter, the other ones of eight."""
+    letters = "abcdefghijklmnopqrstuvwxyz"
+    return [letters[at] if at < 26 else "reader" + letters[at // 26] + letters[at % 26] for at in range(many)]
+
+
+def wrong_names():
+    """Return values of every kind that are no lists of different names."""
+    values = [*NOT_LISTS, nested(20), [], (), "ann", ["ann", "ann"], ("ann", "bob", "ann"), names_for(201)]
+    values += [{"ann": 1}, {"ann"}, iter(["ann"]), names_for(200) + ["a"], ["a"] * 201, ["a"] * 100000]
+    for name in NOT_NAMES:
+        values += [[name], ["ann", name], (name, "ann", "bob"), ["ann", name, "ann"]]
     return values
 
 

@@ -2,18 +2,23 @@
 
 import copy
 import importlib
+import types
 import unittest
 
-from teesizes import histories, possible, ranges, records, states
+from teesizes import counting, histories, possible, ranges, records, states, texts
+from teesizes.console import Console
+from teesizes.counting import count_histories, count_ranks, nth_ranks, ranks_index
 from teesizes.errors import (
     Impossible, InvalidChanges, InvalidHistory, InvalidNumber, InvalidRank, InvalidRanks, InvalidReaders, InvalidRecord,
     InvalidState, TooLong,
 )
 from teesizes.histories import count_words, history_by, is_history, is_ranks, positions_after, ranks_of, record_of
+from teesizes.live import LimitedSource, Source
 from teesizes.possible import is_possible, obstruction, obstructs, possible_readers
 from teesizes.ranges import position_range, possible_ranks
 from teesizes.records import changes_by, count_reads, is_record, joined, record_by, totals_after
 from teesizes.states import even_state, fits, misfit
+from teesizes.texts import format_record, format_state, parse_record, parse_state
 from tests.helper import Checks, as_lists, as_tuples
 
 INTERFACE = {
@@ -25,11 +30,38 @@ INTERFACE = {
     "teesizes.possible": ["possible_readers", "is_possible", "obstruction", "obstructs"],
     "teesizes.states": ["even_state", "fits", "misfit"],
     "teesizes.ranges": ["position_range", "possible_ranks"],
+    "teesizes.counting": ["count_ranks", "all_ranks", "nth_ranks", "ranks_index", "count_histories"],
+    "teesizes.texts": ["format_record", "format_state", "parse_record", "parse_state"],
 }
+
+# The methods that each class has in its own body, by their kind.
+METHODS = {
+    Source: {
+        "plain": [
+            "__init__", "read_item", "undo", "position_of", "rank_of", "names_in_order", "current_history",
+            "current_record", "duplicate", "__len__", "__eq__",
+        ],
+        "property": ["size", "is_even"],
+        "classmethod": ["from_history"],
+    },
+    LimitedSource: {
+        "plain": ["__init__", "read_item", "duplicate", "__eq__"],
+        "property": ["limit"],
+        "classmethod": ["with_names", "from_history"],
+    },
+    Console: {"plain": ["__init__", "execute"], "property": [], "classmethod": ["with_names"]},
+}
+KINDS = {"plain": types.FunctionType, "property": property, "classmethod": classmethod}
 
 HISTORY = [0, 0, 1, 2, 1, 3]
 RANKS = [0, 0, 1, 2, 1, 3]
 RECORD = [(1, 2), (0, 3), (-1, 1)]
+
+
+def all_ranks(record, readers):
+    """Return the list of what the generator yields."""
+    return list(counting.all_ranks(record, readers))
+
 
 # Two calls for each function: the second one has the same shape and another answer.
 CALLS = [
@@ -56,6 +88,15 @@ CALLS = [
     (states.misfit, [[(1, 1), (0, 2), (1, 1)], 4, [2, 2, 0, 0]], [[(1, 2), (0, 2), (1, 1)], 4, [2, 2, 0, 0]]),
     (ranges.position_range, [RECORD, 4, 4, 1], [[(1, 1), (0, 2), (1, 1)], 4, 4, 1]),
     (ranges.possible_ranks, [RECORD, 4, 3], [[(1, 1), (0, 2), (1, 1)], 4, 3]),
+    (counting.count_ranks, [RECORD, 4], [[(1, 1), (0, 2), (1, 1)], 4]),
+    (all_ranks, [RECORD, 4], [[(1, 1), (0, 2), (1, 1)], 4]),
+    (counting.nth_ranks, [RECORD, 4, 1], [[(1, 2), (0, 2), (1, 1)], 4, 1]),
+    (counting.ranks_index, [RECORD, 4, [0, 0, 1, 2, 1, 3]], [RECORD, 4, [0, 0, 1, 1, 2, 3]]),
+    (counting.count_histories, [RECORD, 4], [[(1, 2), (0, 2), (1, 1)], 4]),
+    (texts.format_record, [RECORD], [[(1, 1), (0, 2), (1, 1)]]),
+    (texts.format_state, [[2, 2, 1, 1]], [[3, 2, 1, 0]]),
+    (texts.parse_record, ["u2 s3 d1"], ["u1 s2 u1"]),
+    (texts.parse_state, ["2 2 1 1"], ["3 2 1 0"]),
 ]
 
 
@@ -75,6 +116,13 @@ class InterfaceTest(unittest.TestCase):
         for module, names in INTERFACE.items():
             for name in names:
                 self.assertEqual(getattr(importlib.import_module(module), name).__module__, module)
+
+    def test_methods_are_defined_in_their_classes(self):
+        for kind, methods in METHODS.items():
+            self.assertIn(kind.__module__, ("teesizes.live", "teesizes.console"))
+            for form, names in methods.items():
+                for name in names:
+                    self.assertIs(type(vars(kind)[name]), KINDS[form])
 
     def test_every_function_is_called_here(self):
         called = sorted(function.__name__ for function, _, _ in CALLS)
@@ -104,9 +152,11 @@ class ArgumentsTest(Checks, unittest.TestCase):
             before = copy.deepcopy(function(*passed))
             wanted = function(*second)
             self.assertNotEqual(before, wanted)
-            for old, new in zip(passed, as_lists(second)):
-                if isinstance(old, list):
-                    old[:] = new
+            for at, new in enumerate(as_lists(second)):
+                if isinstance(new, list):
+                    passed[at][:] = new
+                else:
+                    passed[at] = new
             self.assert_same(function(*passed), wanted)
 
     def test_results_do_not_depend_on_earlier_calls(self):
@@ -150,6 +200,14 @@ class ArgumentsTest(Checks, unittest.TestCase):
             self.assert_raises_exactly(InvalidRank, position_range, [(1, 1)], 2, 0, flag)
             self.assert_raises_exactly(InvalidReaders, possible_ranks, [(0, 1)], flag, 0)
             self.assert_raises_exactly(InvalidNumber, possible_ranks, [(0, 2)], 1, flag)
+            for function in (count_ranks, all_ranks, count_histories):
+                self.assert_raises_exactly(InvalidRecord, function, [(0, flag)], 1)
+                self.assert_raises_exactly(InvalidReaders, function, [(0, 1)], flag)
+            self.assert_raises_exactly(InvalidNumber, nth_ranks, RECORD, 4, flag)
+            self.assert_raises_exactly(InvalidRanks, ranks_index, [(1, 1), (-1, 1)], 2, [False, True])
+            self.assert_raises_exactly(InvalidRecord, format_record, [(flag, 1)])
+            self.assert_raises_exactly(InvalidState, format_state, [flag])
+            self.assert_raises_exactly(InvalidNumber, LimitedSource, flag, "ann")
 
 
 class ResultsTest(Checks, unittest.TestCase):
@@ -207,6 +265,26 @@ class ResultsTest(Checks, unittest.TestCase):
         self.assert_raises_exactly(InvalidReaders, is_possible, RECORD, words)
         self.assert_raises_exactly(InvalidNumber, possible_ranks, RECORD, 4, words)
         self.assertIs(obstructs(RECORD, 3, ("few", words)), False)
+
+    def test_counts_texts_and_names_may_be_passed_again(self):
+        record = [(1, 15), (0, 45)]
+        count = count_ranks(record, 6)
+        self.assertGreater(count, 10 ** 20)
+        last = nth_ranks(record, 6, count - 1)
+        self.assertEqual(ranks_index(record, 6, last), count - 1)
+        self.assert_raises_exactly(InvalidNumber, nth_ranks, record, 6, count_histories(record, 6))
+        self.assert_raises_exactly(InvalidReaders, count_ranks, record, count)
+        self.assert_raises_exactly(InvalidReaders, count_ranks, RECORD, possible_readers([(1, 1), (0, 10 ** 30)])[0])
+        self.assertIs(LimitedSource(count, "ann").limit, count)
+        self.assert_raises_exactly(InvalidNumber, LimitedSource, count_words([20] * 20), "ann")
+        self.assertEqual(record_of(6, history_by(6, last)), parse_record(format_record(record)))
+        state = parse_state(format_state(even_state(record, 6)))
+        self.assertEqual(count_words(state), count_words([15, 12, 11, 11, 11, 0]))
+        source = Source.from_history(["ann", "bob"], ["bob", "ann", "bob"])
+        self.assertEqual(is_possible(source.current_record(), 2), True)
+        self.assertEqual(count_ranks(source.current_record(), 2), 1)
+        self.assertEqual(LimitedSource.with_names(source.size, source.names_in_order()).limit, 1)
+        self.assertEqual(Source.from_history(source.names_in_order(), source.current_history()).size, 1)
 
     def test_greatest_number_of_readers_may_be_passed_again(self):
         record = [(1, 10 ** 30), (0, 10 ** 30)] * 199 + [(1, 1), (-1, 1)]
