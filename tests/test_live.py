@@ -336,6 +336,14 @@ class NamesTest(Checks, unittest.TestCase):
             self.assertEqual(Source(name).names_in_order(), [name])
             self.assertEqual(Source("bob", name).names_in_order(), ["bob", name])
 
+    def test_each_sign(self):
+        for sign in map(chr, range(128)):
+            for name in (sign, "ann" + sign, sign + "ann"):
+                if "a" <= sign <= "z":
+                    self.assertEqual(Source(name).names_in_order(), [name])
+                else:
+                    self.assert_raises_exactly(InvalidNames, Source, name)
+
     def test_numbers_of_names(self):
         for many in (1, 2, 12, 199, 200):
             names = names_for(many)

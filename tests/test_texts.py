@@ -106,6 +106,15 @@ class RecordErrorsTest(Checks, unittest.TestCase):
             self.assert_index(f"u1 {word}", 1)
             self.assert_index(f"s7 d3 s1 u5 {word} s1 x", 4)
 
+    def test_each_sign(self):
+        for sign in map(chr, range(128)):
+            if sign not in "0123456789 ":
+                self.assert_index(f"s1 u1{sign}", 1)
+                self.assert_index(f"s1 u{sign}1", 1)
+            if sign not in "usd ":
+                self.assert_index(f"{sign}1", 0)
+                self.assert_index(f"{sign}u1", 0)
+
     def test_spaces(self):
         for text, index in (
             (" ", 0), ("  ", 0), (" u1", 0), ("u1 ", 1), ("u1  s1", 1), ("u1 s1  ", 2), ("u1   s1", 1), ("u 1", 0),
@@ -195,6 +204,13 @@ class StateErrorsTest(Checks, unittest.TestCase):
             self.assert_index(f"{word} 0", 0)
             self.assert_index(f"{GREATEST} {word}", 1)
             self.assert_index(f"9 5 5 1 {word} 0 x", 4)
+
+    def test_each_sign(self):
+        for sign in map(chr, range(128)):
+            if sign not in "0123456789 ":
+                self.assert_index(f"100 1{sign}", 1)
+                self.assert_index(f"100 {sign}1", 1)
+                self.assert_index(sign, 0)
 
     def test_empty_string(self):
         self.assert_index("", 0)
